@@ -1,0 +1,1 @@
+"""Waitwords: words whose kinds wait for kinds beside them."""
