@@ -3,6 +3,8 @@
 import random
 from copy import deepcopy
 
+from waitwords.errors import WaitError
+
 A, B, C, S = [("plain", letter) for letter in "abcs"]
 AB = ("behind", A, B)
 BC = ("behind", B, C)
@@ -49,6 +51,14 @@ class Checks:
         self.assertEqual(named, before)
         self.assert_unshared(found, named)
         self.assert_unshared(found, function(**named))
+
+    def assert_as_ahead(self, calls):
+        """Behind a refused call the same right one is answered as ahead; calls are tuples (function, right, wrong)."""
+        for function, right, wrong in calls:
+            ahead_of_it = function(*right)
+            with self.assertRaises(WaitError):
+                function(*wrong)
+            self.assertEqual(function(*right), ahead_of_it)
 
     def assert_unshared(self, found, told):
         """No list of what was found is one of what was told, or stands in it twice."""

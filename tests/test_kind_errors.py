@@ -89,10 +89,7 @@ class Refused(Checks, unittest.TestCase):
             (balance, ([AB, A],), ([],)), (word, ([AB, A],), ([],)),
             (puts, (AB, AB), (AB, ODD)), (common, (AB, AB), (AB, ODD)),
         ]
-        for function, right, wrong in calls:
-            ahead_of_it = function(*right)
-            self.assertRaises((InvalidKind, InvalidRow, InvalidLetter), function, *wrong)
-            self.assertEqual(function(*right), ahead_of_it)
+        self.assert_as_ahead(calls)
 
 
 if __name__ == "__main__":

@@ -23,6 +23,11 @@ def defined_in(tree):
     return found + [node.targets[0].id for node in tree.body if isinstance(node, ast.Assign)]
 
 
+def methods_in(tree):
+    return [part.name for node in tree.body if isinstance(node, ast.ClassDef) for part in node.body
+            if isinstance(part, ast.FunctionDef)]
+
+
 def docstrings(tree):
     holders = (ast.Module, ast.ClassDef, ast.FunctionDef)
     return [node.body[0].value for node in ast.walk(tree)
@@ -91,6 +96,8 @@ class Language(unittest.TestCase):
             self.assertIsNone(BARRED.search(bare))
 
     def test_names(self):
+        own = {name for _, _, tree in self.each_file() for name in methods_in(tree)}
+        self.assertFalse(own & METHODS - {"__init__"})
         for _, _, tree in self.each_file():
             imported = {alias.name for node in tree.body if isinstance(node, ast.ImportFrom) for alias in node.names}
             classes = {node.name for node in tree.body if isinstance(node, ast.ClassDef)}
@@ -102,7 +109,48 @@ class Language(unittest.TestCase):
                 if isinstance(node, ast.Name) and isinstance(node.ctx, ast.Load) and hasattr(builtins, node.id):
                     self.assertIn(node.id, CALLED)
                 if isinstance(node, ast.Call) and isinstance(node.func, ast.Attribute):
-                    self.assertIn(node.func.attr, METHODS)
+                    self.assertIn(node.func.attr, METHODS | own)
+
+    def test_attributes(self):
+        # An attribute that is read is one that a method gives its own object.
+        nodes = [node for _, _, tree in self.each_file() for node in ast.walk(tree)]
+        own = {name for _, _, tree in self.each_file() for name in methods_in(tree)}
+        called = [node.func for node in nodes if isinstance(node, ast.Call)]
+        read = [node for node in nodes if isinstance(node, ast.Attribute) and node not in called]
+        given = {node.attr for node in read if isinstance(node.ctx, ast.Store)}
+        self.assertFalse(given & own)
+        for node in read:
+            self.assertIn(node.attr, given)
+            if isinstance(node.ctx, ast.Store):
+                self.assertEqual(node.value.id, "self")
+
+    def test_lists_and_dicts_at_module_level_are_read_in_place(self):
+        held = {}
+        for file, _, tree in self.each_file():
+            for node in tree.body:
+                if isinstance(node, ast.Assign) and isinstance(node.value, (ast.List, ast.Dict)):
+                    held[node.targets[0].id] = file.name
+        self.assertGreater(len(held), 4)
+        for file, _, tree in self.each_file():
+            allowed = []
+            for node in ast.walk(tree):
+                if isinstance(node, ast.Subscript) and isinstance(node.ctx, ast.Load):
+                    allowed.append(node.value)
+                if isinstance(node, ast.Attribute) and node.attr == "get":
+                    allowed.append(node.value)
+                if isinstance(node, ast.Compare) and isinstance(node.ops[0], (ast.In, ast.NotIn)):
+                    allowed += node.comparators
+            for node in ast.walk(tree):
+                if isinstance(node, ast.Name) and node.id in held and isinstance(node.ctx, ast.Load):
+                    self.assertIn(node, allowed, (file.name, node.id))
+
+    def test_what_the_package_does_without(self):
+        for _, _, tree in self.each_file():
+            for node in ast.walk(tree):
+                self.assertNotIsInstance(node, (ast.Set, ast.SetComp, ast.Lambda, ast.NamedExpr, ast.Try, ast.With,
+                                                ast.Match, ast.Yield, ast.YieldFrom))
+                if isinstance(node, ast.Delete):
+                    self.assertTrue(all(isinstance(target, ast.Subscript) for target in node.targets))
 
     def assert_free(self, name, taken):
         self.assertRegex(name, r"^(_?[A-Za-z][A-Za-z0-9_]*|_)$")

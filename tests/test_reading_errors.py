@@ -3,7 +3,7 @@
 import unittest
 
 from samples import A, AB, B, BOTH, C, DEEP_WITH, LIFT, ODD, S, WITH, WORD, Checks, behind
-from waitwords.errors import InvalidKind, InvalidPlace, InvalidReading, InvalidRow, NotSingle, WaitError
+from waitwords.errors import InvalidKind, InvalidPlace, InvalidReading, InvalidRow, NotSingle
 from waitwords.readings import after_step, is_long, is_short, kind_of, long_form, put_in
 from waitwords.readings import same_readings, shortened, steps, turned_reading, width
 
@@ -194,7 +194,7 @@ class Rows(Checks, unittest.TestCase):
         self.assert_refused(NotSingle, WITH, same_readings, [A], ("giveahead", WITH, BOTH), WITH_GIVE)
 
 
-class BehindARefusedCall(unittest.TestCase):
+class BehindARefusedCall(Checks, unittest.TestCase):
 
     def test_all_is_as_ahead(self):
         back = ("behind", LIFT, WORD)
@@ -205,10 +205,7 @@ class BehindARefusedCall(unittest.TestCase):
             (kind_of, ([A], LIFT), ([A], BOTH)), (is_long, ([A], LIFT), ([], LIFT)),
             (long_form, ([AB], WORD), ([AB, B], WORD)), (same_readings, ([A], LIFT, WORD), ([A], LIFT, ODD)),
         ]
-        for function, right, wrong in calls:
-            ahead_of_it = function(*right)
-            self.assertRaises(WaitError, function, *wrong)
-            self.assertEqual(function(*right), ahead_of_it)
+        self.assert_as_ahead(calls)
 
 
 if __name__ == "__main__":

@@ -19,11 +19,23 @@ def check_not_empty(row):
         raise InvalidRow([])
 
 
+def check_row(row, others):
+    """Raise the errors of a row and of other kinds behind it that may be of any sort."""
+    check_kinds(row + others)
+    check_not_empty(row)
+
+
 def check_single(kinds):
     """Raise NotSingle for the first of these in which a "with" stands."""
     for kind in kinds:
         if has_with(kind):
             raise NotSingle(kind)
+
+
+def check_single_row(row, others):
+    """Raise the errors of a row and of other kinds behind it that must be single."""
+    check_row(row, others)
+    check_single(row + others)
 
 
 def check_letter(letter):

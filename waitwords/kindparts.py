@@ -60,10 +60,13 @@ def swap_letters(kind, table):
     return (kind[0], swap_letters(kind[1], table), swap_letters(kind[2], table))
 
 
-def signed_letters(kind):
-    """Return the word of a kind as a list of tuples (letter, sign), nothing left out yet."""
+def signed_letters(kind, start):
+    """Return the word of a kind as a list of tuples (letter, sign), nothing left out yet.
+
+    It begins with the sign 1; with -1 the word is turned round, and has the other signs.
+    """
     found = []
-    left = [(kind, 1)]
+    left = [(kind, start)]
     while left:
         part, sign = left.pop()
         if part[0] == "plain":

@@ -65,7 +65,7 @@ def balance(row):
     check_not_empty(row)
     totals = {}
     for kind in row:
-        for letter, sign in signed_letters(kind):
+        for letter, sign in signed_letters(kind, 1):
             totals[letter] = totals.get(letter, 0) + sign
     return [(letter, totals[letter]) for letter in sorted(totals) if totals[letter] != 0]
 
@@ -76,7 +76,7 @@ def word(row):
     check_not_empty(row)
     found = []
     for kind in row:
-        for letter, sign in signed_letters(kind):
+        for letter, sign in signed_letters(kind, 1):
             if found and found[-1] == (letter, -sign):
                 found.pop()
             else:

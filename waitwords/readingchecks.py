@@ -2,7 +2,7 @@
 
 from waitwords.copies import fresh
 from waitwords.errors import InvalidReading
-from waitwords.kindchecks import check_kinds, check_not_empty, check_single
+from waitwords.kindchecks import check_kinds, check_single, check_single_row
 from waitwords.readingparts import given_kinds, is_reading_part, parts_inside_first, width_above
 from waitwords.showing import shown_kinds
 
@@ -38,7 +38,5 @@ def check_readings(readings):
 def check_readings_of_row(row, readings):
     """Check a row and readings of it; return the list of the kinds that they show."""
     given = [kind for reading in readings for kind in given_kinds(reading)]
-    check_kinds(row + given)
-    check_not_empty(row)
-    check_single(row + given)
+    check_single_row(row, given)
     return [check_shown(row, reading) for reading in readings]

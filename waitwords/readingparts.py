@@ -1,10 +1,14 @@
-"""The parts of readings and the words in them. Nothing is checked here.
+"""The parts of readings and the words in them. Nothing is checked here."""
 
-A place is the list of the indexes that lead from a reading to one of its parts.
-"""
+from waitwords.walks import inside_first, outside_first, place_of_part, put_at
 
 # The indexes of the readings within each reading.
 INNER = {"word": (), "behind": (1, 2), "ahead": (1, 2), "givebehind": (2,), "giveahead": (2,)}
+
+
+def indexes_in_reading(part):
+    """Return the indexes of the readings within a part."""
+    return INNER.get(part[0], ())
 
 
 def is_reading_part(part):
@@ -18,41 +22,13 @@ def is_give(part):
 
 
 def parts_outside_first(reading):
-    """Return the tuples (part, around, at) of all parts, a part ahead of those within it, from the left.
-
-    The part stands at the index `at` of the part whose place in this list is `around`.
-    """
-    found = []
-    left = [(reading, -1, 0)]
-    while left:
-        part, around, at = left.pop()
-        number = len(found)
-        found.append((part, around, at))
-        for inner in reversed(INNER.get(part[0], ())):
-            left.append((part[inner], number, inner))
-    return found
-
-
-def place_of_part(parts, number):
-    """Return the place of one of the outside first parts."""
-    place = []
-    _, around, at = parts[number]
-    while around >= 0:
-        place.append(at)
-        _, around, at = parts[around]
-    return place[::-1]
+    """Return the tuples (part, around, at) of all parts, as `outside_first` tells them."""
+    return outside_first(reading, indexes_in_reading)
 
 
 def parts_inside_first(reading):
     """Return the list of all parts, those within a part ahead of it, from the left."""
-    found = []
-    left = [reading]
-    while left:
-        part = left.pop()
-        found.append(part)
-        for at in INNER.get(part[0], ()):
-            left.append(part[at])
-    return found[::-1]
+    return inside_first(reading, indexes_in_reading)
 
 
 def given_kinds(reading):
@@ -97,24 +73,6 @@ def place_of_kind(reading, at):
     parts = parts_outside_first(reading)
     words = [number for number, entry in enumerate(parts) if entry[0][0] == "word"]
     return place_of_part(parts, words[free[at]])
-
-
-def part_at(reading, place):
-    """Return the part of a reading at a place."""
-    for at in place:
-        reading = reading[at]
-    return reading
-
-
-def put_at(reading, place, other):
-    """Return a reading with another one in the place of the part at a place."""
-    around = []
-    for at in place:
-        around.append((reading, at))
-        reading = reading[at]
-    for part, at in reversed(around):
-        other = part[:at] + (other,) + part[at + 1:]
-    return other
 
 
 def put_for_kind(reading, at, other):

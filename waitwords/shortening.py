@@ -1,6 +1,7 @@
-"""Steps, by which readings become short. The shape of the readings is right here."""
+"""Steps, by which readings become short, and terms likewise. Their shape is right here."""
 
-from waitwords.readingparts import part_at, parts_outside_first, place_of_part, put_at, put_for_kind
+from waitwords.readingparts import indexes_in_reading, put_for_kind
+from waitwords.walks import outside_first, part_at, place_of_part, put_at
 
 
 def can_step(part):
@@ -10,10 +11,29 @@ def can_step(part):
     return part[0] == "ahead" and part[2][0] == "giveahead"
 
 
+def places_of_steps(whole, indexes):
+    """Return the places in a reading or a term at which a step can be made, a part ahead of those within it.
+
+    It is passed a function that tells the indexes of the parts within a part.
+    """
+    parts = outside_first(whole, indexes)
+    return [place_of_part(parts, number) for number, entry in enumerate(parts) if can_step(entry[0])]
+
+
+def made_short(whole, indexes, step):
+    """Return the short reading or term that steps lead to; `step` makes that of a part."""
+    places = places_of_steps(whole, indexes)
+    while places:
+        # From the last place on, so that no step moves a place that is still to come.
+        for place in reversed(places):
+            whole = put_at(whole, place, step(part_at(whole, place)))
+        places = places_of_steps(whole, indexes)
+    return whole
+
+
 def step_places(reading):
     """Return the places at which a step can be made, a part ahead of those within it, from the left."""
-    parts = parts_outside_first(reading)
-    return [place_of_part(parts, number) for number, entry in enumerate(parts) if can_step(entry[0])]
+    return places_of_steps(reading, indexes_in_reading)
 
 
 def stepped(part):
@@ -30,10 +50,4 @@ def stepped_at(reading, place):
 
 def short_form(reading):
     """Return the short reading that a reading comes to."""
-    places = step_places(reading)
-    while places:
-        # From the last place on, so that no step moves a place that is still to come.
-        for place in reversed(places):
-            reading = stepped_at(reading, place)
-        places = step_places(reading)
-    return reading
+    return made_short(reading, indexes_in_reading, stepped)
