@@ -3,7 +3,9 @@
 import random
 from copy import deepcopy
 
+from waitwords.books import Book
 from waitwords.errors import WaitError
+from waitwords.spans import Span
 
 A, B, C, S = [("plain", letter) for letter in "abcs"]
 AB = ("behind", A, B)
@@ -32,23 +34,23 @@ class Checks:
 
     def assert_refused(self, error, value, function, *told, **named):
         """A call raises just this error with just this value, and changes nothing."""
-        before = deepcopy((told, named))
+        before = laid_out(deepcopy((told, named)))
         with self.assertRaises(error) as caught:
             function(*told, **named)
         self.assertIs(type(caught.exception), error)
         self.assertEqual(caught.exception.value, value)
         self.assertIs(type(caught.exception.value), type(value))
-        self.assertEqual((told, named), before)
+        self.assertEqual(laid_out((told, named)), before)
         self.assert_unshared(caught.exception.value, (told, named))
 
     def assert_answer(self, answer, function, **named):
         """A call is answered alike by name, by position, and again; nothing passed changes or is shared."""
-        before = deepcopy(named)
+        before = laid_out(deepcopy(named))
         found = function(**named)
-        self.assertEqual(found, answer)
+        self.assertEqual(laid_out(found), laid_out(answer))
         self.assertIs(type(found), type(answer))
-        self.assertEqual(function(*named.values()), answer)
-        self.assertEqual(named, before)
+        self.assertEqual(laid_out(function(*named.values())), laid_out(answer))
+        self.assertEqual(laid_out(named), before)
         self.assert_unshared(found, named)
         self.assert_unshared(found, function(**named))
 
@@ -58,13 +60,26 @@ class Checks:
             ahead_of_it = function(*right)
             with self.assertRaises(WaitError):
                 function(*wrong)
-            self.assertEqual(function(*right), ahead_of_it)
+            self.assertEqual(laid_out(function(*right)), laid_out(ahead_of_it))
 
     def assert_unshared(self, found, told):
         """No list of what was found is one of what was told, or stands in it twice."""
         mine = [id(part) for part in lists_in(found)]
         self.assertEqual(len(mine), len(set(mine)))
         self.assertFalse(set(mine) & {id(part) for part in lists_in(told)})
+
+
+def laid_out(value):
+    """A value with plain lists, in their order, in the place of books and spans, and dicts."""
+    if isinstance(value, Book):
+        return ["a book", value.entries]
+    if isinstance(value, Span):
+        return ["a span", value.products]
+    if isinstance(value, dict):
+        return ["a dict", laid_out(list(value.items()))]
+    if isinstance(value, (list, tuple)):
+        return type(value)(laid_out(part) for part in value)
+    return value
 
 
 def lists_in(value):

@@ -69,6 +69,54 @@ MIDDLES = r"""
 [('plain', 'a'), None]
 """
 
+CHAINS = r"""
+>>> from waitwords.chains import are_joined, chain, chain_kinds, plain_form
+>>> [are_joined(lifted(a, b, True), a), are_joined(ab, a), chain(ab, a), chain_kinds(a, chain(a, lifted(a, s, False)))[-1] == lifted(a, s, False), plain_form([("a", 1), ("b", -1)], "s") == ("with", a, ("ahead", b, ("behind", s, s)))]
+[True, False, None, True, True]
+"""
+
+SPANS = r"""
+>>> from waitwords.spans import first_outside, lot_of, row_lot, text_span
+>>> span, texts = text_span("a", 2)
+>>> lots = [("a", [1]), ("b", [0])]
+>>> [span.products, texts, lot_of(span, ab, lots), row_lot(span, [ab, b], lots), first_outside(span, [ab, b], a, lots), first_outside(span, [b], a, lots)]
+[[[1, 2, 2], [2, 2, 2], [2, 2, 2]], ['a', 'aa', None], [0], [1], None, 0]
+"""
+
+BOOKS = r"""
+>>> from waitwords.books import Book, comes, first_row_of, readings_in, rows_of
+>>> book = Book([("he", [a]), ("sleeps", [as_]), ("soundly", [("ahead", as_, as_)])])
+>>> [comes(book, ["he", "sleeps"], s), rows_of(book, 3, s), first_row_of(book, as_, 2), readings_in(book, ["he", "sleeps"], s), len(book)]
+[True, [['he', 'sleeps', 'soundly']], ['sleeps'], [([('plain', 'a'), ('ahead', ('plain', 'a'), ('plain', 's'))], [('ahead', ('word',), ('word',))])], 3]
+"""
+
+RULES = r"""
+>>> from waitwords.rules import greatest_length, is_endless, kind_of_rule, nth_list, numbers, rules
+>>> flat = Book([("he", [a]), ("sleeps", [as_]), ("and", [("ahead", a, ("behind", a, a))])])
+>>> [rules(flat)[2], numbers(flat, "s", 6), is_endless(flat, "s"), greatest_length(flat, "a"), nth_list(flat, "s", 4, 0), kind_of_rule(("a", ["a"], "and", ["a"])) == ("behind", ("ahead", a, a), a)]
+[('a', ['a'], 'and', ['a']), [0, 0, 1, 0, 1, 0, 2], True, None, ['he', 'and', 'he', 'sleeps'], True]
+"""
+
+GAPS = r"""
+>>> from waitwords.gaps import completed, fillers, gaps, need_behind, words_for
+>>> [need_behind([ab], a) == ("ahead", ab, a), fillers([ab], 1, a, "ab", 1), words_for(book, ["he"], 1, s), completed(book, ["he"], s, 2), gaps(book, ["he", "sleeps"], s)]
+[True, [('plain', 'b')], ['sleeps'], ['sleeps'], [(2, ['soundly'])]]
+"""
+
+LEARNING = r"""
+>>> from waitwords.learning import general, least_book, lets, unified
+>>> trees = [("ahead", ("leaf", "he"), ("leaf", "sleeps")), ("ahead", ("behind", ("leaf", "the"), ("leaf", "cat")), ("leaf", "sleeps"))]
+>>> [general(trees[:1], "s"), least_book(trees, "s").entries == [("he", [a]), ("sleeps", [as_]), ("the", [("behind", a, ("plain", "c"))]), ("cat", [("plain", "c")])], unified([(ab, ("behind", b, s))])]
+[[('he', ('plain', 'a')), ('sleeps', ('ahead', ('plain', 'a'), ('plain', 's')))], True, [('b', ('plain', 'a')), ('s', ('plain', 'a'))]]
+"""
+
+DESKS = r"""
+>>> from waitwords.desks import Desk
+>>> desk = Desk(book)
+>>> [desk.order("put n a"), desk.order("put t s"), desk.order("ahead v n t"), desk.order("show v"), desk.order("comes n v to t"), desk.order("lets he sleeps to t"), desk.order("lifted m n t"), desk.order("comes m v to t"), len(desk), desk.order("teach she n"), desk.order("count n v to t"), desk.order("undo"), desk.order("book")]
+['done', 'done', 'done', '(a\\s)', 'yes', 'yes', 'done', 'yes', 4, 'done', '1', 'done', 'he: a ; sleeps: (a\\s) ; soundly: ((a\\s)\\(a\\s))']
+"""
+
 
 class Examples(unittest.TestCase):
 
@@ -76,7 +124,9 @@ class Examples(unittest.TestCase):
         # The names of a section stand for the same things in those behind it.
         names = {}
         sections = [("kinds", KINDS), ("readings", READINGS), ("papers", PAPERS), ("terms", TERMS), ("values", VALUES),
-                    ("finding", FINDING), ("links", LINKS), ("cancelling", CANCELLING), ("middles", MIDDLES)]
+                    ("finding", FINDING), ("links", LINKS), ("cancelling", CANCELLING), ("middles", MIDDLES),
+                    ("chains", CHAINS), ("spans", SPANS), ("books", BOOKS), ("rules", RULES), ("gaps", GAPS),
+                    ("learning", LEARNING), ("desks", DESKS)]
         for title, text in sections:
             told = doctest.DocTestParser().get_doctest(text, names, title, None, 0)
             failures = []

@@ -3,14 +3,8 @@
 import unittest
 
 from samples import A, AB, AS, B, BOTH, C, DEEP, LIFT, S, WITH, WORD, Checks, ahead, all_kinds, all_readings, behind
+from waitwords.books import Book
 from waitwords.texts import show_book, show_kind, show_paper, show_reading, show_row, show_tree
-
-
-class Entries:
-    """All that is taken of a book."""
-
-    def __init__(self, entries):
-        self.entries = entries
 
 
 class Kinds(Checks, unittest.TestCase):
@@ -94,10 +88,7 @@ class Books(Checks, unittest.TestCase):
         for entries, text in (([], "none"), ([("he", [A])], "he: a"), ([("he", [A, AB])], "he: a , (a/b)"),
                               ([("sleeps", [AS]), ("he", [A]), ("so", [ahead(AS, AS), WITH])],
                                "sleeps: (a\\s) ; he: a ; so: ((a\\s)\\(a\\s)) , (a.b)")):
-            book = Entries(entries)
-            self.assertEqual(show_book(book), text)
-            self.assertEqual(show_book(book=book), text)
-            self.assertIs(book.entries, entries)
+            self.assert_answer(text, show_book, book=Book(entries))
 
 
 if __name__ == "__main__":

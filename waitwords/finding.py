@@ -1,11 +1,11 @@
 """Which rows come to which kinds, and by which readings; kinds to which two lead, and that lead to two."""
 
-from waitwords.errors import InvalidLetter, InvalidNumber, NotLeading
+from waitwords.errors import InvalidNumber, NotLeading
 from waitwords.kindchecks import check_kinds, check_row, check_single_row
-from waitwords.kindparts import is_letter
 from waitwords.papersearch import PaperSearch, found_paper
 from waitwords.readingsearch import found_readings
-from waitwords.texts import show_kind, show_reading
+from waitwords.singlekinds import check_signs, single_kinds
+from waitwords.texts import show_reading
 
 
 def comes_to(row, kind):
@@ -44,11 +44,11 @@ def kinds_of(row, signs, most):
     They ascend by how many letters stand in them, and then by their texts.
     """
     check_single_row(row, [])
-    _check_signs(signs)
+    check_signs(signs, 3)
     if most not in (1, 2, 3):
         raise InvalidNumber(most)
     search = PaperSearch()
-    return [kind for kind in _single_kinds(signs, most) if search.paper_for_kinds(row, kind) is not None]
+    return [kind for kind in single_kinds(signs, most) if search.paper_for_kinds(row, kind) is not None]
 
 
 def above(one, other, low):
@@ -72,21 +72,3 @@ def below(one, other, high):
 def _leads(one, other):
     """Tell whether a kind leads to another one, once both are checked."""
     return found_paper([one], other) is not None
-
-
-def _check_signs(signs):
-    """Raise InvalidLetter for a text that is not one to three unlike letters, ascending."""
-    right = 1 <= len(signs) <= 3 and all([is_letter(sign) for sign in signs])
-    if not right or list(signs) != sorted(set(signs)):
-        raise InvalidLetter(signs)
-
-
-def _single_kinds(signs, most):
-    """Return the list of all single kinds of at most so many letters out of a text, in the order of `kinds_of`."""
-    found = [[("plain", sign) for sign in signs]]
-    while len(found) < most:
-        many = len(found) + 1
-        pairs = [(one, other) for left in range(1, many) for one in found[left - 1] for other in found[many - left - 1]]
-        kinds = [(text, one, other) for text in ("behind", "ahead") for one, other in pairs]
-        found.append(sorted(kinds, key=show_kind))
-    return [kind for group in found for kind in group]

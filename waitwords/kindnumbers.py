@@ -23,7 +23,7 @@ class KindNumbers:
 
     `originals` are the kinds, `shapes` the tuples (text, first, second) of the numbers of their parts, or ("plain",
     letter, 0), `ends` the numbers of what they are when they wait no more, and `spellings` their words, with a
-    number for each letter, below 0 for the other sign. `entries` tell the number of each shape.
+    number for each letter, below 0 for the other sign. `places` tell the number of each shape.
     """
 
     def __init__(self):
@@ -31,7 +31,7 @@ class KindNumbers:
         self.shapes = []
         self.ends = []
         self.spellings = []
-        self.entries = {}
+        self.places = {}
 
     def number(self, kind):
         """Return the number of a kind."""
@@ -39,13 +39,13 @@ class KindNumbers:
             shape = ("plain", kind[1], 0)
         else:
             shape = (kind[0], self.number(kind[1]), self.number(kind[2]))
-        if shape not in self.entries:
-            self.entries[shape] = len(self.originals)
+        if shape not in self.places:
+            self.places[shape] = len(self.originals)
             self.originals.append(kind)
             self.shapes.append(shape)
             self.ends.append(self.end_of(shape))
             self.spellings.append(self.spelling_of(shape))
-        return self.entries[shape]
+        return self.places[shape]
 
     def end_of(self, shape):
         """Return the number of what the newest kind is when it waits no more."""
