@@ -172,7 +172,8 @@ class NoText(Checks, unittest.TestCase):
                              "behind[0;same[a]]", "behind[same[a];same[b]]", "behind[0;same[a];same[b]", "cut[0;same[a]]",
                              "cut[same[a];0;same[a]]", "same[a]same[b]", "same[a];same[b]", "0", ";", "0;same[a]",
                              "join[;]", "join[]", "part[0;0]", "givebehind[givebehind]", "give[same[a]]", "n;p", "p;p",
-                             "givebehind[same[a]same[a]]", "join[p;p]", "part[n;p]")
+                             "givebehind[same[a]same[a]]", "join[p;p]", "part[n;p]", "givebehind[p[]", "join[p[;same[a]]",
+                             "part[n[;same[a]]", "behind[0;p[;p[]", "join[same[a];p[]", "n[", "p[", "odd[same[a]]")
 
     def test_places(self):
         for place in ("00", "01", "0001", "10000", "12345", "00000", "-1", "+1", "-0", "1 ", " 1", "", "a", "1a", "a1", "1.0",

@@ -38,10 +38,18 @@ def token_at(text, at):
     if text[end:end + 1] != "[":
         return None, end
     if name == "same":
-        stop = text.find("]", end)
-        kind = None if stop < 0 else kind_in(text[end + 1:stop])
-        return None if kind is None else (name, kind), stop + 1
-    return name if name in PAPER_FORMS else None, end + 1
+        return same_at(text, end + 1)
+    # Another name on the stack would be taken for what stands between brackets.
+    return (name if name in PAPER_FORMS else None), end + 1
+
+
+def same_at(text, at):
+    """Return the "same" whose kind begins at a place, None if there is none, and where it ends."""
+    end = text.find("]", at)
+    kind = None if end < 0 else kind_in(text[at:end])
+    if kind is None:
+        return None, len(text)
+    return ("same", kind), end + 1
 
 
 def run_end(text, at):
